@@ -1,5 +1,6 @@
 """Chains: sweeps, and what operators and methods make of chains."""
 from ranksweeps.errors import NoNumber, TooLarge
+from ranksweeps.filters import filtered
 from ranksweeps.rows import is_within, row_of
 
 MOST_SIZE = 8
@@ -29,7 +30,7 @@ class Chain:
 
     def __call__(self, row):
         """Return the row that the chain makes of the row."""
-        return made(self, row_of(row), swept)
+        return made(self, row_of(row), filtered)
 
     def __eq__(self, other):
         """Return whether both are written alike. A sweep has more to compare, and its own __eq__."""
@@ -139,11 +140,6 @@ def made(chain, row, step):
     if chain.kind == "then":
         return made(second, made(first, row, step), step)
     return chosen(chain.kind, made(first, row, step), made(second, row, step))
-
-
-def swept(sweep, row):
-    """Return the row that a sweep makes by its own call."""
-    return sweep(row)
 
 
 def negated(row):

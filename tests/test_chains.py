@@ -1,17 +1,20 @@
 """Point [4], and what point [1] says of chains."""
 import unittest
 
+from by_words import chained, some_chains, some_rows, some_sweeps
 from ranksweeps.chains import Chain, joint_direction, made
 from ranksweeps.errors import NoNumber, NoRow, TooLarge
-from steps import Step
+from ranksweeps.rows import level
+from ranksweeps.sweeps import Sweep
+from steps import step
 from values import KINDS, NO_LISTS, NO_NUMBERS
 
-ON = Step((-1,))                                # moves the cells one on
-OFF = Step((1,))                                # moves them one back
-MEDIAN = Step((-1, 0, 1), 2)
-KEEP = Step((0,))
-KEEP_ON = Step((0,), way="on")
-KEEP_BACK = Step((0,), way="back")
+ON = step((-1,))                                # moves the cells one on
+OFF = step((1,))                                # moves them one back
+MEDIAN = step((-1, 0, 1), 2)
+KEEP = step((0,))
+KEEP_ON = step((0,), way="on")
+KEEP_BACK = step((0,), way="back")
 ROW = (5, 1, 4, 4, 0)
 ATTRIBUTES = ("kind", "parts", "times", "size", "depth", "reach", "written", "direction")
 
@@ -57,7 +60,7 @@ class Making(unittest.TestCase):
         self.assertEqual((ON & KEEP)((-3, -5, 2)), (-3, -5, -5))
 
     def test_turned(self):
-        least, greatest = Step((-1, 0), 1), Step((-1, 0), 2)
+        least, greatest = step((-1, 0), 1), step((-1, 0), 2)
         self.assertEqual(least((3, 1, 2)), (3, 1, 1))
         self.assertEqual((~least)((3, 1, 2)), (3, 3, 2))
         self.assertEqual((~greatest)((3, -1, 2)), least((3, -1, 2)))
@@ -125,7 +128,8 @@ class Making(unittest.TestCase):
 
     def test_another_step_through_the_same_chain(self):
         def ring(sweep, row):
-            return tuple(row[(k + sweep.offsets[0]) % len(row)] for k in range(len(row)))
+            offset = sweep.weights.index(1) - sweep.own
+            return tuple(row[(k + offset) % len(row)] for k in range(len(row)))
 
         for chain, result in ((ON, (3, 1, 2)), (ON >> OFF, (1, 2, 3)), (ON | OFF, (3, 3, 2)), (ON & OFF, (2, 1, 1)),
                               (~ON, (3, 1, 2)), (ON.mirrored(), (2, 3, 1)), (ON ** 2, (2, 3, 1)), (ON ** 0, (1, 2, 3))):
@@ -133,16 +137,78 @@ class Making(unittest.TestCase):
         self.assertEqual(made(ON ** 3, (0,) * 299 + (1,), ring), (0, 0, 1) + (0,) * 297)
 
 
+class OfSweeps(unittest.TestCase):
+    """Chains of sweeps of all kinds."""
+
+    def test_all_kinds_are_among_them(self):
+        chains = some_chains(300, 1) + some_chains(300, 2, ("all", "back"))
+        self.assertEqual({chain.kind for chain in chains}, {"then", "higher", "lower", "turned", "mirrored", "times"})
+        self.assertEqual({chain.direction for chain in chains}, {"all", "on", "back"})
+
+    def test_word_by_word(self):
+        for chain in some_chains(300, 3) + some_chains(100, 4, ("all", "back")):
+            for row in some_rows(8, 5) + some_rows(1, chain.size, 200, 30):
+                self.assertEqual(chain(row), chained(chain, row))
+                self.assertEqual(chain(list(row)), chain(row))
+
+    def test_each_kind_over_200_cells(self):
+        p, q = Sweep((1, 2, 0, 1), 3, ends="cut", way="on"), Sweep((1, 1, 1), 2)
+        row = tuple((k * k) % 211 - 100 for k in range(200))
+        for chain in (p >> q, p | q, p & q, ~p, p.mirrored(), p ** 2, p ** 0):
+            self.assertEqual(chain(row), chained(chain, row))
+            self.assertEqual(chain(list(row)), chain(row))
+            self.assertEqual(len(chain(row)), 200)
+
+    def test_levels_pass_through(self):
+        for chain in some_chains(60, 6) + some_chains(20, 7, ("all", "back")):
+            for row in some_rows(4, 8):
+                for value in range(-4, 4):
+                    self.assertEqual(chain(level(row, value)), level(chain(row), value))
+
+    def test_the_operators_as_the_document_explains_them(self):
+        sweeps = some_sweeps(40, 9, ("all",))
+        for p, q in zip(sweeps[::2], sweeps[1::2]):
+            for row in some_rows(6, 10):
+                self.assertEqual((p | p)(row), p(row))
+                self.assertEqual(p.mirrored()(row), p(row[::-1])[::-1])
+                self.assertEqual((~p)(row), tuple(-cell for cell in p(tuple(-cell for cell in row))))
+                self.assertEqual((p ** 1)(row), p(row))
+                self.assertEqual((q ** 0)(row), row)
+
+    def test_limits_are_kept(self):
+        for chain in some_chains(300, 11) + some_chains(100, 12, ("all", "back")):
+            self.assertLessEqual(chain.size, 8)
+            self.assertLessEqual(chain.depth, 20)
+            self.assertLessEqual(sum(chain.reach), 6)
+            self.assertLessEqual(chain.written, 3)
+            self.assertIn(chain.direction, ("all", "on", "back"))
+
+    def test_equal_if_made_alike(self):
+        chains, others = some_chains(60, 13), some_chains(60, 13)
+        for a, chain in enumerate(chains):
+            self.assertEqual(chain, others[a])
+            self.assertIsNot(chain, others[a])
+            self.assertEqual([chain == other for other in others].count(True),
+                             [str(written(chain)) == str(written(other)) for other in others].count(True))
+
+
+def written(chain):
+    """How a chain is written, as tuples."""
+    if chain.kind == "sweep":
+        return (chain.weights, chain.rank, chain.own, chain.ends, chain.way)
+    return (chain.kind, chain.times, *[written(part) for part in chain.parts])
+
+
 class Attributes(unittest.TestCase):
-    wide = Step((-2, 1), way="on")              # reach (2, 1), written 2
-    slim = Step((-1, 3), 2)                     # reach (1, 3), written 0
+    wide = step((-2, 1), way="on")              # reach (2, 1), written 2
+    slim = step((-1, 3), 2)                     # reach (1, 3), written 0
 
     def test_of_a_sweep(self):
         self.assertEqual(attributes(self.wide), ["sweep", (), 1, 1, 1, (2, 1), 2, "on"])
         self.assertEqual(attributes(self.slim), ["sweep", (), 1, 1, 1, (1, 3), 0, "all"])
 
     def test_of_then(self):
-        near = Step((-1, 0, 1), 2, way="on")
+        near = step((-1, 0, 1), 2, way="on")
         self.assertEqual(attributes(near >> self.wide),
                          ["then", (near, self.wide), 1, 2, 2, (3, 2), 3, "on"])
         self.assertEqual(attributes((near >> KEEP) >> OFF),
@@ -155,7 +221,7 @@ class Attributes(unittest.TestCase):
             self.assertEqual(attributes(chain), [kind, (self.slim, KEEP_BACK >> KEEP), 1, 3, 3, (1, 3), 0, "back"])
 
     def test_written_of_two_parts_is_a_sum(self):
-        one, two = Step((-1,), way="on"), Step((-2,), way="on")
+        one, two = step((-1,), way="on"), step((-2,), way="on")
         for chain in (one >> two, one | two, one & two):
             self.assertEqual(chain.written, 3)
 
@@ -170,7 +236,7 @@ class Attributes(unittest.TestCase):
         self.assertEqual(self.slim.mirrored().direction, "all")
 
     def test_of_times(self):
-        chain = Step((-1, 1), way="back") | KEEP
+        chain = step((-1, 1), way="back") | KEEP
         self.assertEqual(attributes(chain), ["higher", chain.parts, 1, 2, 2, (1, 1), 1, "back"])
         self.assertEqual(attributes(chain ** 0), ["times", (chain,), 0, 1, 3, (0, 0), 0, "all"])
         self.assertEqual(attributes(chain ** 1), ["times", (chain,), 1, 2, 3, (1, 1), 1, "back"])
@@ -187,7 +253,7 @@ class Attributes(unittest.TestCase):
             self.assertEqual([(p >> q).direction, (p | q).direction, (p & q).direction], [joint] * 3)
 
     def test_operators_leave_their_operands(self):
-        p, q = self.wide >> KEEP, Step((-1, 0), 1)
+        p, q = self.wide >> KEEP, step((-1, 0), 1)
         before = attributes(p), attributes(q), p(ROW), q(ROW)
         for call in (lambda: p >> q, lambda: p | q, lambda: p & q, lambda: ~p, lambda: p ** 0,
                      lambda: p.repeated(1), p.mirrored, p.sweeps, lambda: p == q):
@@ -254,29 +320,28 @@ class Limits(unittest.TestCase):
         self.broken("depth", deep.repeated, 8)
 
     def test_reach(self):
-        three = Step((-1, 2))
-        for chain in (three >> three, Step((-6, 0)) | KEEP, Step((-6,)) & ON, Step((-4,)) | Step((2,)),
-                      three ** 2, ON ** 6, Step((1, 6)).mirrored(), ~Step((-2, 4))):
+        three = step((-1, 2))
+        for chain in (three >> three, step((-6, 0)) | KEEP, step((-6,)) & ON, step((-4,)) | step((2,)),
+                      three ** 2, ON ** 6, step((1, 6)).mirrored(), ~step((-2, 4))):
             self.assertEqual(sum(chain.reach), 6)
-        self.broken("reach", lambda: three >> (ON | Step((3,))))
-        self.broken("reach", lambda: Step((-4,)) | Step((3,)))
-        self.broken("reach", lambda: Step((-4, 2)) & Step((3,)))
+        self.broken("reach", lambda: three >> (ON | step((3,))))
+        self.broken("reach", lambda: step((-4,)) | step((3,)))
+        self.broken("reach", lambda: step((-4, 2)) & step((3,)))
         self.broken("reach", three.repeated, 3)
         self.broken("reach", ON.repeated, 7)
         self.broken("reach", OFF.repeated, 7)
-        self.broken("reach", Step, (-3, 4))
-        self.assertEqual((Step((-3, 3)) ** 0).reach, (0, 0))
+        self.assertEqual((step((-3, 3)) ** 0).reach, (0, 0))
 
     def test_written(self):
-        one, two = Step((-1,), way="on"), Step((2,), way="back")
-        for chain in (one >> one >> one, (one | one) & one, one ** 3, two | Step((1,), way="back"),
-                      ~Step((-3,), way="on"), Step((3,), way="back").mirrored()):
+        one, two = step((-1,), way="on"), step((2,), way="back")
+        for chain in (one >> one >> one, (one | one) & one, one ** 3, two | step((1,), way="back"),
+                      ~step((-3,), way="on"), step((3,), way="back").mirrored()):
             self.assertEqual(chain.written, 3)
         self.two_parts("written", one, one ** 3)
         self.two_parts("written", two, two)
         self.broken("written", one.repeated, 4)
         self.broken("written", two.repeated, 2)
-        self.broken("written", Step, (-4,), 1, "on")
+        self.broken("written", step, (-4,), 1, "on")
         self.assertEqual((one ** 0).written, 0)
 
     def test_ways(self):
@@ -288,7 +353,7 @@ class Limits(unittest.TestCase):
         self.assertEqual((KEEP_ON ** 0 >> KEEP_BACK).direction, "back")
 
     def test_the_first_broken_one(self):
-        far_on, far_back = Step((-3, 3), way="on"), Step((-3, 3), way="back")
+        far_on, far_back = step((-3, 3), way="on"), step((-3, 3), way="back")
         # Each pair breaks the named limit and all that are checked behind it.
         large = of_size(7) >> far_on
         while large.depth < 20:
@@ -304,10 +369,10 @@ class Limits(unittest.TestCase):
         self.broken("depth", deep.repeated, 8)
         self.broken("reach", lambda: far_on >> far_back)
         self.broken("reach", far_on.repeated, 2)
-        self.two_parts("reach", Step((-3,), way="on"), Step((3,), way="back") | Step((4,)))
+        self.two_parts("reach", step((-3,), way="on"), step((3,), way="back") | step((4,)))
         self.broken("written", lambda: far_on | far_back)
         self.broken("written", lambda: far_on & far_back)
-        self.two_parts("written", Step((-2,), way="on"), Step((2,), way="back"))
+        self.two_parts("written", step((-2,), way="on"), step((2,), way="back"))
         self.two_parts("ways", KEEP_ON, far_back)
 
     def test_a_chain_that_could_not_be_made_leaves_its_parts(self):
@@ -334,11 +399,11 @@ class Equality(unittest.TestCase):
         lambda: OFF ** 2,
         lambda: (ON >> OFF) >> MEDIAN,
         lambda: ON >> (OFF >> MEDIAN),
-        lambda: ON >> Step((1,), way="on"),
-        lambda: Step((-1,)),
-        lambda: Step((1,)),
-        lambda: Step((-1, 0, 1), 1),
-        lambda: Step((-1, 0, 1), 2),
+        lambda: ON >> step((1,), way="on"),
+        lambda: step((-1,)),
+        lambda: step((1,)),
+        lambda: step((-1, 0, 1), 1),
+        lambda: step((-1, 0, 1), 2),
     )
 
     def test_equal_exactly_if_written_alike(self):
@@ -349,7 +414,7 @@ class Equality(unittest.TestCase):
                     self.assertIs(first() != second(), a != b)
 
     def test_parts_made_anew_are_equal(self):
-        self.assertEqual(~(Step((-1,)) >> Step((1,))) ** 2, ~(Step((-1,)) >> Step((1,))) ** 2)
+        self.assertEqual(~(step((-1,)) >> step((1,))) ** 2, ~(step((-1,)) >> step((1,))) ** 2)
 
     def test_alike_but_not_written_alike(self):
         self.assertNotEqual(ON.mirrored(), OFF)

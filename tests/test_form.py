@@ -12,6 +12,9 @@ DEFINED = {
                "NoForm", "NoRing", "NoText", "NoAnswer", "NoName"),
     "rows": ("is_row", "is_bits", "level", "levels"),
     "chains": ("Chain",),
+    "sweeps": ("Sweep",),
+    "passes": ("stays", "passes", "after"),
+    "machines": ("Rows", "all_rows", "no_rows", "rows_of", "valued"),
 }
 
 
