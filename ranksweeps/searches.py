@@ -1,7 +1,7 @@
 """Machines that are found by a search in breadth."""
 
 
-def explored(start, follow, most):
+def explored(start, follow, most=None):
     """Return (keys, steps) of the machine that starts at a key, or None if it has more than `most` states.
 
     follow(key) is a list of the keys that the letters lead to. The keys stand in the order in which they are met.
@@ -21,3 +21,19 @@ def explored(start, follow, most):
             step.append(places[key])
         steps.append(tuple(step))
     return keys, steps
+
+
+def traced(start, follow):
+    """Return (keys, steps, told) of the machine that starts at a key and tells something at each step.
+
+    follow(key) is a list of pairs, for each letter the key that it leads to and what is told on the way.
+    """
+    told = []
+    keys, steps = explored(start, lambda key: keys_of(follow(key), told))
+    return keys, steps, told
+
+
+def keys_of(pairs, told):
+    """Return the list of the keys of the pairs, and append the tuple of what else is in them to the list `told`."""
+    told.append(tuple([said for _, said in pairs]))
+    return [key for key, _ in pairs]

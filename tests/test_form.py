@@ -15,6 +15,9 @@ DEFINED = {
     "sweeps": ("Sweep",),
     "passes": ("stays", "passes", "after"),
     "machines": ("Rows", "all_rows", "no_rows", "rows_of", "valued"),
+    "decided": ("differing", "above", "parting", "relation", "form", "alike_forms"),
+    "settling": ("staying", "swinging", "unsettled", "settles", "staying_count"),
+    "images": ("images", "never", "sources", "source", "ways", "kept"),
 }
 
 
