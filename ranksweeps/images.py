@@ -132,7 +132,7 @@ def made_machine(chain, rows):
              for targets, cells in zip(steps, told)]
     some, steps = explored(1, lambda mask: masks_behind(masks, mask))
     ended = sum([bit for bit, guess in zip(bits, guesses) if guess == (ENDED,)])
-    return steps, [mask & ended > 0 for mask in some]
+    return steps, [(mask & ended) > 0 for mask in some]
 
 
 def guesses_behind(reader, rows, guess):
@@ -166,7 +166,7 @@ def masks_behind(masks, mask):
     """Return the sets of guesses, as numbers, that the cells 0 and 1 lead to."""
     zero = one = 0
     for index, (with_zero, with_one) in enumerate(masks):
-        if mask >> index & 1 == 1:
+        if (mask >> index) & 1 == 1:
             zero = zero | with_zero
             one = one | with_one
     return [zero, one]

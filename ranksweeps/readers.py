@@ -35,7 +35,7 @@ class Layout:
         delay = max([int(self.delay_of(stream)) for stream in streams])
         return [self.delayed(stream, delay) for stream in streams]
 
-    def chain(self, chain, stream):
+    def put_chain(self, chain, stream):
         """Return the stream of what the chain makes of a stream."""
         return self.laid(chain, stream, self.backward, False)
 
@@ -118,7 +118,7 @@ def ended(stations, watched, key):
 def pair_reader(first, second):
     """Return the reader that tells the cells that two chains make of the row."""
     layout = Layout(joint_direction(first.direction, second.direction) == "back")
-    return reader_of(layout, [layout.chain(first, 0), layout.chain(second, 0)])
+    return reader_of(layout, [layout.put_chain(first, 0), layout.put_chain(second, 0)])
 
 
 def passes_reader(chain, numbers):
@@ -126,5 +126,5 @@ def passes_reader(chain, numbers):
     layout = Layout(chain.direction == "back")
     streams = [0]
     for _ in range(numbers[-1]):
-        streams.append(layout.chain(chain, streams[-1]))
+        streams.append(layout.put_chain(chain, streams[-1]))
     return reader_of(layout, [streams[number] for number in numbers])

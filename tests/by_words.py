@@ -1,4 +1,4 @@
-"""Point [3] and point [4] word by word: what sweeps and chains make, without any of the program's own ways."""
+"""Points [3], [4] and [11.1] word by word: what sweeps and chains make, without any of the program's own ways."""
 import random
 
 from ranksweeps.errors import TooLarge
@@ -22,23 +22,38 @@ def swept(sweep, row):
     return tuple(row)
 
 
-def chained(chain, row):
+def ring_swept(sweep, row):
+    made = []
+    for i in range(len(row)):
+        values = []
+        for j, weight in enumerate(sweep.weights):
+            values += [row[(i + j - sweep.own) % len(row)]] * weight
+        made.append(sorted(values)[sweep.rank - 1])
+    return tuple(made)
+
+
+def chained(chain, row, step=swept):
     if chain.kind == "sweep":
-        return swept(chain, row)
+        return step(chain, row)
     first, second = chain.parts[0], chain.parts[-1]
     if chain.kind == "then":
-        return chained(second, chained(first, row))
+        return chained(second, chained(first, row, step), step)
     if chain.kind == "higher":
-        return tuple(max(pair) for pair in zip(chained(first, row), chained(second, row)))
+        return tuple(max(pair) for pair in zip(chained(first, row, step), chained(second, row, step)))
     if chain.kind == "lower":
-        return tuple(min(pair) for pair in zip(chained(first, row), chained(second, row)))
+        return tuple(min(pair) for pair in zip(chained(first, row, step), chained(second, row, step)))
     if chain.kind == "turned":
-        return tuple(-cell for cell in chained(first, [-cell for cell in row]))
+        return tuple(-cell for cell in chained(first, tuple(-cell for cell in row), step))
     if chain.kind == "mirrored":
-        return chained(first, row[::-1])[::-1]
+        return chained(first, row[::-1], step)[::-1]
     for _ in range(chain.times):
-        row = chained(first, row)
+        row = chained(first, row, step)
     return tuple(row)
+
+
+def ringed(chain, row):
+    """What the chain makes of the row as a ring."""
+    return chained(chain, tuple(row), ring_swept)
 
 
 def some_sweeps(count, seed, ways=("all", "on", "back")):

@@ -18,6 +18,10 @@ DEFINED = {
     "decided": ("differing", "above", "parting", "relation", "form", "alike_forms"),
     "settling": ("staying", "swinging", "unsettled", "settles", "staying_count"),
     "images": ("images", "never", "sources", "source", "ways", "kept"),
+    "rings": ("ring", "ring_passes", "ring_relation", "ring_parting", "ring_count"),
+    "cheapest": ("cheapest", "ruled_out", "check_cheapest"),
+    "texts": ("chain_text", "rows_text", "read_chain", "read_rows"),
+    "desks": ("Desk", "Trial"),
 }
 
 
