@@ -132,4 +132,6 @@ def is_reason(value, p, candidate):
     """Return whether the value, of any kind, is a reason why the chain of the candidate is not alike to p."""
     if not isinstance(value, (list, tuple)) or len(value) != 2:
         return False
-    return is_same(value[0], candidate.indexes) and is_bits(value[1]) and p(value[1]) != candidate.chain(value[1])
+    indexes, row = value
+    chain = candidate.chain
+    return is_same(indexes, candidate.indexes) and is_bits(row) and p(row) != chain(row)

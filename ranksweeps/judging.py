@@ -84,17 +84,25 @@ def judged_least(reader, judge):
         longer = []
         for row, places in groups:
             for cell in (0, 1):
-                fresh = []
-                for place in places:
-                    fresh.extend([target for target in walk.targets(place, cell) if target not in seen])
                 # Rows come in their order, so the first one that leads to a place is as good as any.
-                seen.update({place: True for place in fresh})
-                if True in [walk.is_end(place) for place in fresh]:
+                fresh = fresh_targets(walk, places, cell, seen)
+                if True in [walk.is_end(target) for target in fresh]:
                     return row + (cell,)
                 if fresh:
-                    longer.append((row + (cell,), list({place: True for place in fresh})))
+                    longer.append((row + (cell,), fresh))
         groups = longer
     return None
+
+
+def fresh_targets(walk, places, cell, seen):
+    """Return the list of the places that a cell leads to and that are not in the dict `seen`; then they are."""
+    fresh = []
+    for place in places:
+        for target in walk.targets(place, cell):
+            if target not in seen:
+                seen[target] = True
+                fresh.append(target)
+    return fresh
 
 
 def judged_count(reader, judge, length):

@@ -3,6 +3,8 @@
 Cell i of ring k is the bit k * length + i. Levels pass through sweeps, so a ring of integers is the rings of its
 levels; and sweeps over all rings at once take only some operations on numbers.
 """
+from ranksweeps.parts import through
+
 # The weights of a sweep add up to at most 21.
 DIGITS = 5
 MOST_OFFSET = 6
@@ -44,25 +46,13 @@ class Lanes:
             needed = needed // 2
         return enough
 
-    def ringed(self, chain, bits, mirrored=False, dual=False):
+    def joined(self, kind, one, two):
+        """Return the greater ("higher") or the lesser cells of both."""
+        return one | two if kind == "higher" else one & two
+
+    def ringed(self, chain, bits):
         """Return what a chain of direction "all" makes of the rings."""
-        if chain.kind == "sweep":
-            return self.swept(chain, bits, mirrored, dual)
-        first = chain.parts[0]
-        if chain.kind == "turned":
-            return self.ringed(first, bits, mirrored, not dual)
-        if chain.kind == "mirrored":
-            return self.ringed(first, bits, not mirrored, dual)
-        if chain.kind == "times":
-            for _ in range(chain.times):
-                bits = self.ringed(first, bits, mirrored, dual)
-            return bits
-        made = self.ringed(first, bits, mirrored, dual)
-        second = chain.parts[1]
-        if chain.kind == "then":
-            return self.ringed(second, made, mirrored, dual)
-        other = self.ringed(second, bits, mirrored, dual)
-        return made | other if (chain.kind == "higher") != dual else made & other
+        return through(self, chain, bits, False, False)
 
     def ring(self, bits, number):
         """Return the ring with this number as a tuple of cells."""

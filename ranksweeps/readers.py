@@ -1,9 +1,8 @@
 """Readers: machines that read a row of 0 and 1 cell by cell and tell what chains make of it."""
 from ranksweeps.chains import joint_direction
+from ranksweeps.parts import through
 from ranksweeps.searches import traced
 from ranksweeps.stations import Window, joining_station, window_of, window_station
-
-DUAL_KIND = {"higher": "lower", "lower": "higher"}
 
 
 class Layout:
@@ -35,30 +34,18 @@ class Layout:
         delay = max([int(self.delay_of(stream)) for stream in streams])
         return [self.delayed(stream, delay) for stream in streams]
 
-    def put_chain(self, chain, stream):
-        """Return the stream of what the chain makes of a stream."""
-        return self.laid(chain, stream, self.backward, False)
+    def swept(self, sweep, stream, mirrored, dual):
+        """Return the stream of what a sweep makes of a stream."""
+        return self.put(window_station(window_of(sweep, mirrored, dual), stream, self.delay_of(stream)))
 
-    def laid(self, chain, stream, mirrored, dual):
-        """Return the stream of a part of a chain, seen from the end if mirrored, with 0 and 1 exchanged if dual."""
-        if chain.kind == "sweep":
-            return self.put(window_station(window_of(chain, mirrored, dual), stream, self.delay_of(stream)))
-        first = chain.parts[0]
-        if chain.kind == "turned":
-            return self.laid(first, stream, mirrored, not dual)
-        if chain.kind == "mirrored":
-            return self.laid(first, stream, not mirrored, dual)
-        if chain.kind == "times":
-            for _ in range(chain.times):
-                stream = self.laid(first, stream, mirrored, dual)
-            return stream
-        made = self.laid(first, stream, mirrored, dual)
-        second = chain.parts[1]
-        if chain.kind == "then":
-            return self.laid(second, made, mirrored, dual)
-        one, two = self.together([made, self.laid(second, stream, mirrored, dual)])
-        kind = DUAL_KIND[chain.kind] if dual else chain.kind
+    def joined(self, kind, first, second):
+        """Return the stream of the greater ("higher") or the lesser cells of two streams."""
+        one, two = self.together([first, second])
         return self.put(joining_station(one, two, kind, self.delay_of(one)))
+
+    def put_chain(self, chain, stream):
+        """Return the stream of what a chain makes of a stream."""
+        return through(self, chain, stream, self.backward, False)
 
 
 class Reader:

@@ -4,7 +4,8 @@
 def explored(start, follow, most=None):
     """Return (keys, steps) of the machine that starts at a key, or None if it has more than `most` states.
 
-    follow(key) is a list of the keys that the letters lead to. The keys stand in the order in which they are met.
+    Without `most`, it may have any number. follow(key) is a list of the keys that the letters lead to. The keys stand
+    in the order in which they are met.
     Operators call no function that they are passed: for them, `joined` of ranksweeps.least does this with tables.
     """
     places = {start: 0}
